@@ -1,0 +1,155 @@
+"""The form of the package's files: the rules of the language document that a short check can see."""
+
+import ast
+import builtins
+import pathlib
+import unittest
+
+PACKAGE = pathlib.Path(__file__).resolve().parent.parent / "unlikekeys"
+BUILTINS = set(
+    "len range enumerate zip min max sum abs sorted reversed int str bool list tuple dict set isinstance ord repr any "
+    "all divmod map iter next Exception ValueError TypeError KeyError IndexError LookupError ZeroDivisionError "
+    "ArithmeticError OverflowError RuntimeError NotImplementedError AttributeError StopIteration NotImplemented "
+    "property staticmethod classmethod super object bytes".split())
+METHODS = set(
+    "append clear copy count endswith extend find get index insert isalnum isalpha isdigit islower isspace isupper items "
+    "join keys ljust lower lstrip partition pop remove replace reverse rfind rjust rpartition rsplit rstrip setdefault "
+    "split splitlines startswith strip update upper values zfill bit_length add discard".split())
+SPECIAL = set("__init__ __eq__ __repr__ __str__ __len__ __enter__ __exit__ __call__ __iter__".split())
+BARRED = set(
+    "register mro elements open input law version_info with_traceback add_note breakpoint compile delattr dir eval exec "
+    "exit getattr globals hasattr help id locals quit setattr type vars hash format print chr frozenset".split())
+LIBRARY = {"heapq", "math", "itertools"}
+NODES_BARRED = (ast.Global, ast.AsyncFunctionDef, ast.AsyncFor, ast.AsyncWith, ast.Await, ast.Div, ast.Import)
+AT_ONCE = {"any", "all", "min", "max", "sum", "sorted"}
+
+
+def package_files():
+    return sorted(PACKAGE.glob("*.py"))
+
+
+def trees():
+    return [(path, ast.parse(path.read_text())) for path in package_files()]
+
+
+def names_bound(tree):
+    """Each name that a file gives to something, with its line."""
+    for node in ast.walk(tree):
+        if isinstance(node, ast.Name) and not isinstance(node.ctx, ast.Load):
+            yield node.id, node.lineno
+        elif isinstance(node, ast.arg):
+            yield node.arg, node.lineno
+        elif isinstance(node, (ast.FunctionDef, ast.ClassDef)):
+            yield node.name, node.lineno
+        elif isinstance(node, ast.ExceptHandler) and node.name:
+            yield node.name, node.lineno
+
+
+def own_methods():
+    return {part.name for _, tree in trees() for node in ast.walk(tree) if isinstance(node, ast.ClassDef)
+            for part in node.body if isinstance(part, ast.FunctionDef)}
+
+
+class Form(unittest.TestCase):
+    def refuse(self, rule, path, line):
+        self.fail(f"{rule}: {path.name}:{line}")
+
+    def test_folder(self):
+        for path in PACKAGE.iterdir():
+            if path.name != "__pycache__":
+                self.assertRegex(path.name, r"\A[a-z_]+\.py\Z")
+
+    def test_characters_and_sizes(self):
+        for path in package_files():
+            lines = path.read_bytes().decode("utf-8").split("\n")
+            self.assertLessEqual(len(lines) - 1, 399, path.name)
+            for number, line in enumerate(lines, 1):
+                if len(line) > 120 or any(not " " <= sign <= "~" for sign in line):
+                    self.refuse("L10, L14", path, number)
+
+    def test_functions_are_small(self):
+        for path, tree in trees():
+            for node in ast.walk(tree):
+                if isinstance(node, ast.FunctionDef) and node.end_lineno - node.lineno + 1 > 40:
+                    self.refuse("L10", path, node.lineno)
+
+    def test_module_level(self):
+        kinds = (ast.ImportFrom, ast.FunctionDef, ast.ClassDef, ast.Assign)
+        for path, tree in trees():
+            for place, node in enumerate(tree.body):
+                if not isinstance(node, kinds) and not (place == 0 and isinstance(node, ast.Expr)):
+                    self.refuse("L3", path, node.lineno)
+
+    def test_imports(self):
+        for path, tree in trees():
+            for node in ast.walk(tree):
+                if isinstance(node, ast.ImportFrom) and node.module not in LIBRARY:
+                    self.check_import(path, node)
+
+    def check_import(self, path, node):
+        """An own import names the very file that defines the name (L16)."""
+        self.assertEqual(node.level, 0)
+        package, _, module = node.module.partition(".")
+        if package != PACKAGE.name:
+            self.refuse("L2", path, node.lineno)
+        bound = {name for name, _ in names_bound(ast.parse((PACKAGE / f"{module}.py").read_text()))}
+        for alias in node.names:
+            if alias.name not in bound:
+                self.refuse("L16", path, node.lineno)
+
+    def test_no_two_files_import_each_other(self):
+        needs = {path.stem: {node.module.partition(".")[2] for node in tree.body if isinstance(node, ast.ImportFrom)}
+                 for path, tree in trees()}
+        for start in needs:
+            seen, left = set(), list(needs[start])
+            while left:
+                name = left.pop()
+                if name not in seen:
+                    seen.add(name)
+                    left.extend(needs.get(name, ()))
+            self.assertNotIn(start, seen)
+
+    def test_names(self):
+        for path, tree in trees():
+            for name, line in names_bound(tree):
+                if name not in SPECIAL and (name in BARRED or hasattr(builtins, name) or name.startswith("__")):
+                    self.refuse("L8, L15, L17", path, line)
+
+    def test_builtins(self):
+        for path, tree in trees():
+            for node in ast.walk(tree):
+                if isinstance(node, ast.Name) and hasattr(builtins, node.id) and node.id not in BUILTINS:
+                    self.refuse("L8", path, node.lineno)
+
+    def test_methods(self):
+        own = own_methods()
+        for path, tree in trees():
+            for node in ast.walk(tree):
+                if isinstance(node, ast.Call) and isinstance(node.func, ast.Attribute):
+                    if node.func.attr not in METHODS and node.func.attr not in own:
+                        self.refuse("L25", path, node.lineno)
+
+    def test_statements_and_values(self):
+        for path, tree in trees():
+            for node in ast.walk(tree):
+                if isinstance(node, NODES_BARRED):
+                    self.refuse("L6, L7", path, getattr(node, "lineno", 0))
+                if isinstance(node, ast.Constant) and isinstance(node.value, (float, complex)):
+                    self.refuse("L7", path, node.lineno)
+                if isinstance(node, ast.Constant) and isinstance(node.value, str) and "%" in node.value:
+                    self.refuse("L27", path, node.lineno)
+
+    def test_lists_where_a_class_compares(self):
+        for path, tree in trees():
+            for node in ast.walk(tree):
+                if isinstance(node, ast.Call) and isinstance(node.func, ast.Name) and node.func.id in AT_ONCE:
+                    if any(isinstance(argument, ast.GeneratorExp) for argument in node.args):
+                        self.refuse("L7", path, node.lineno)
+
+    def test_decorators(self):
+        for path, tree in trees():
+            for node in ast.walk(tree):
+                for sign in getattr(node, "decorator_list", ()):
+                    words = ast.unparse(sign)
+                    if words not in ("property", "staticmethod", "classmethod") and not words.endswith(".setter"):
+                        self.refuse("L4", path, node.lineno)

@@ -1,0 +1,1 @@
+"""Unlikekeys: rows in many houses, and no key twice."""
