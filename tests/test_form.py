@@ -153,3 +153,47 @@ class Form(unittest.TestCase):
                     words = ast.unparse(sign)
                     if words not in ("property", "staticmethod", "classmethod") and not words.endswith(".setter"):
                         self.refuse("L4", path, node.lineno)
+
+    def test_no_name_hides_an_import_or_a_class(self):
+        for path, tree in trees():
+            above = {alias.name for node in tree.body if isinstance(node, ast.ImportFrom) for alias in node.names}
+            classes = {node.name for node in tree.body if isinstance(node, ast.ClassDef)}
+            functions = {node.name for node in tree.body if isinstance(node, ast.FunctionDef)}
+            for name, line in names_bound(tree):
+                if name in above or (name in functions and not self.is_bound_above(tree, name, line)):
+                    self.refuse("L15", path, line)
+            self.assertEqual(classes & above, set())
+
+    def is_bound_above(self, tree, name, line):
+        return any(isinstance(node, ast.FunctionDef) and (node.name, node.lineno) == (name, line) for node in tree.body)
+
+    def test_methods_and_attributes_of_a_class(self):
+        for path, tree in trees():
+            for node in tree.body:
+                if isinstance(node, ast.ClassDef):
+                    methods = [part.name for part in node.body if isinstance(part, ast.FunctionDef)]
+                    stored = {part.attr for part in ast.walk(node)
+                              if isinstance(part, ast.Attribute) and isinstance(part.ctx, ast.Store)}
+                    self.assertEqual(len(methods), len(set(methods)))
+                    self.assertEqual(stored & set(methods), set(), path.name)
+
+    def test_attributes_that_are_read_are_assigned(self):
+        stored = {part.attr for _, tree in trees() for part in ast.walk(tree)
+                  if isinstance(part, ast.Attribute) and isinstance(part.ctx, ast.Store)}
+        known = stored | METHODS | own_methods() | SPECIAL
+        for path, tree in trees():
+            for part in ast.walk(tree):
+                if isinstance(part, ast.Attribute) and part.attr not in known:
+                    self.refuse("L18", path, part.lineno)
+
+    def test_each_function_of_the_interface_stands_in_its_file(self):
+        interface = {
+            "worlds": ("World",), "schemes": ("is_schemes",), "runs": ("is_run", "played"),
+            "cases": ("is_case", "is_within", "led"), "judging": ("judged", "comes"),
+            "tables": ("shows_right", "shows_wrong", "shows_comes", "shows_never"),
+            "barring": ("barred_stands", "barred"), "mending": ("chosen", "mended", "shows_mended"), "own": ("own",),
+        }
+        for file, names in interface.items():
+            tree = ast.parse((PACKAGE / f"{file}.py").read_text())
+            defined = {node.name for node in tree.body if isinstance(node, (ast.FunctionDef, ast.ClassDef))}
+            self.assertEqual(set(names) - defined, set(), file)

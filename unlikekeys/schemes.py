@@ -1,6 +1,7 @@
 """Schemes: small programs of steps that put, drop, look for and move rows."""
 
 from unlikekeys.checks import are_different, is_name, is_number_of, is_rising, is_tuple
+from unlikekeys.errors import BadSchemes
 from unlikekeys.worlds import is_pattern_at
 
 SORTS = ("put", "drop", "look", "move")
@@ -18,6 +19,11 @@ def is_schemes(world, value):
     if not is_tuple(value, 1, 3) or not all([is_scheme(world, scheme) for scheme in value]):
         return False
     return are_different([scheme[0] for scheme in value])
+
+
+def check_schemes(world, value):
+    if not is_schemes(world, value):
+        raise BadSchemes(value)
 
 
 def is_scheme(world, value):
