@@ -640,4 +640,22 @@ class Reference(RunsCase):
         world, schemes = plain(), (marking_put("pa", "a", "b"),)
         run = events("begin pa, step 0, step 0, step 0")
         first, second = (played(world, schemes, run) for _ in range(2))
+        self.assertEqual(first, second)
         self.assertEqual(vars(first), vars(second))
+
+    def test_plays_that_are_not_equal(self):
+        """Each pair differs in one attribute alone."""
+        world = claims((("a", "", "ra=row"), ("a", "", "ra=no"), ("a", "", "ca=shut")))
+        schemes = (scheme("p", "put", ask("a", "ra=no", "ra=row", 0, 0, "late"), say("done")),
+                   scheme("l", "look", do("a", "", "", 1, 1), say("there")), scheme("m", "move", do("a", "", "", 1, 1), say("done")))
+        for name, one, other in (
+                ("last_stand", "begin p", "begin p, lapse 2"), ("doers", "begin p", "begin p, begin p"),
+                ("letters", "begin p", "begin p, leave 0"), ("moments", "lapse 0, lapse 1", "lapse 0, lapse 1, lapse 0, lapse 1"),
+                ("wrong", "begin l, begin m, step 0, step 1", "begin l, begin m, step 1, step 0")):
+            plays = [played(world, schemes, events(text)) for text in (one, other)]
+            differs = [word for word, value in vars(plays[0]).items() if value != vars(plays[1])[word]]
+            self.assertEqual(differs, [name])
+            self.assertIs(plays[0] == plays[1], False)
+            self.assertIs(plays[0] == played(world, schemes, events(one)), True)
+            for value in (None, 0, (), vars(plays[0])):
+                self.assertIs(plays[0] == value, False)

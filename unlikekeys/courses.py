@@ -44,9 +44,9 @@ class Course:
         scheme = scheme_named(self.schemes, name)
         if scheme is None:
             return False
-        # Wrong only at a broken stand, and the event that led there was wrong ahead of it.
         self.doers.append(fresh_doer(scheme))
         self.seens.append(seen_first(self.world.has_row(self.last_stand)))
+        # A begin is wrong at a broken stand only, and never the first wrong event: one has led there.
         return True
 
     def _act(self, word, number):

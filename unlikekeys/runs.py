@@ -15,6 +15,11 @@ class Play:
         self.moments = tuple(course.moments)
         self.wrong = course.wrong
 
+    # Equal calls of played return equal Plays.
+    def __eq__(self, other):
+        return (isinstance(other, Play) and self.last_stand == other.last_stand and self.doers == other.doers
+                and self.letters == other.letters and self.moments == other.moments and self.wrong == other.wrong)
+
 
 def is_run(world, schemes, value):
     """Whether any value is a run."""
