@@ -132,7 +132,7 @@ class PlainPlay:
 
     def __init__(self, world, schemes):
         self.scene = Scene(world, schemes, tuple(slot[2][0] for slot in world.slots), [])
-        self.doers, self.letters, self.moments, self.stands = [], [], [], []
+        self.doers, self.letters, self.moments, self.stands, self.words = [], [], [], [], []
         self.wrong = None
         self.rows = {}
         self.made = {}
@@ -187,6 +187,7 @@ class PlainPlay:
         if word and self.wrong is None:
             self.wrong = (index, word)
         self.stands.append(self.scene.stand())
+        self.words.append(word)
 
     def told(self):
         letters = tuple(None if self.scene.actors[at] is None else tuple(self.scene.actors[at]) for at in self.letters)

@@ -32,3 +32,13 @@ def is_rising(values):
 
 def are_different(names):
     return len(set(names)) == len(names)
+
+
+def is_exactly(value, expected):
+    """Whether any value is this tuple, integer, string, bool or None, and of the same kind in each place."""
+    if isinstance(expected, tuple):
+        if not is_tuple(value, len(expected), len(expected)):
+            return False
+        return all([is_exactly(one, other) for one, other in zip(value, expected)])
+    # True equals 1, but it is none.
+    return isinstance(value, bool) == isinstance(expected, bool) and value == expected

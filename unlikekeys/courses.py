@@ -12,7 +12,8 @@ class Course:
     def __init__(self, world, schemes):
         self.world = world
         self.schemes = schemes
-        self.length = 0
+        # The run so far.
+        self.events = []
         self.last_stand = world.first
         # Descriptions; a doer that has ended is ("ended", answer), a letter that came is None.
         self.doers = []
@@ -20,7 +21,23 @@ class Course:
         # What each doer has seen since its begin.
         self.seens = []
         self.moments = []
+        # The word by which the last event is wrong, "" if it is not.
+        self.word = ""
+        # (index, word) of the first wrong event.
         self.wrong = None
+
+    def copy(self):
+        """A course that is like this one, and goes on by itself."""
+        other = Course(self.world, self.schemes)
+        other.events = list(self.events)
+        other.last_stand = self.last_stand
+        other.doers = list(self.doers)
+        other.letters = list(self.letters)
+        other.seens = list(self.seens)
+        other.moments = list(self.moments)
+        other.word = self.word
+        other.wrong = self.wrong
+        return other
 
     def take(self, event):
         """Do what any value tells as an event; False, and nothing is done, if it is none or is not possible."""
@@ -37,7 +54,7 @@ class Course:
         elif word == "lapse":
             taken = is_number_of(len(self.world.lapses), which) and self._lapse(which)
         if taken:
-            self.length += 1
+            self.events.append(event)
         return taken
 
     def _begin(self, name):
@@ -46,7 +63,7 @@ class Course:
             return False
         self.doers.append(fresh_doer(scheme))
         self.seens.append(seen_first(self.world.has_row(self.last_stand)))
-        # A begin is wrong at a broken stand only, and never the first wrong event: one has led there.
+        self._note_wrong(wrong_of_nobody("", self.world.is_broken(self.last_stand)))
         return True
 
     def _act(self, word, number):
@@ -97,7 +114,7 @@ class Course:
         row_behind = self.world.has_row(self.last_stand)
         moment = moment_between(row_ahead, row_behind)
         if moment != "":
-            self.moments.append((self.length, moment, number))
+            self.moments.append((len(self.events), moment, number))
         self._take_marks(makes)
         self.seens = [seen_behind(seen, at == number and moment == sort, row_behind)
                       for at, seen in enumerate(self.seens)]
@@ -110,5 +127,6 @@ class Course:
                         for letter in self.letters]
 
     def _note_wrong(self, word):
+        self.word = word
         if self.wrong is None and word != "":
-            self.wrong = (self.length, word)
+            self.wrong = (len(self.events), word)

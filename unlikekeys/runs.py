@@ -34,7 +34,7 @@ def played(world, schemes, run):
         raise BadRun(None)
     course = Course(world, schemes)
     if not takes_all(course, run):
-        raise BadRun(course.length)
+        raise BadRun(len(course.events))
     return Play(course)
 
 
