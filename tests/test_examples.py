@@ -141,6 +141,77 @@ MENDING = (
 """,
 )
 
+TOWNS = (
+    """
+>>> from unlikekeys.worlds import World
+>>> world = World(('a', 'b'), (('ra', 'a', ('no', 'row')), ('rb', 'b', ('no', 'row'))), ((('ra', 'row'),), (('rb', 'row'),)), ((('ra', 'row'), ('rb', 'row')),), ())
+>>> pa = ('pa', 'put', (), (('do', 'b', (('rb', 'no'),), (), (), 1, 3), ('do', 'a', (('ra', 'no'),), (('ra', 'row'),), (), 2, 3), ('say', 'done'), ('say', 'refused')))
+>>> from unlikekeys.towns import Town
+>>> town = Town(world, (pa,))
+>>> [town.begin('pa', 'k'), town.begin('pa', 'l'), town.step(0), town.step(0), town.has_row('k'), town.has_row('l'), town.time, town.history(), town.back(), town.has_row('k'), town.doer(0)]
+[0, 1, None, 'done', True, False, 4, ((1, 4, 'k', 'put', 'done'), (2, None, 'l', 'put', None)), None, False, ('pa', 1, False, 'here')]
+""",
+    """
+>>> from unlikekeys.worlds import World
+>>> world = World(('a', 'b'), (('ra', 'a', ('no', 'row')), ('rb', 'b', ('no', 'row'))), ((('ra', 'row'),), (('rb', 'row'),)), ((('ra', 'row'), ('rb', 'row')),), ())
+>>> pa = ('pa', 'put', (), (('do', 'b', (('rb', 'no'),), (), (), 1, 3), ('do', 'a', (('ra', 'no'),), (('ra', 'row'),), (), 2, 3), ('say', 'done'), ('say', 'refused')))
+>>> from unlikekeys.towns import Town
+>>> Town(world, (pa,)).step(0)
+raises NoDoer(value=0)
+""",
+)
+
+HISTORIES = (
+    """
+>>> from unlikekeys.doubts import doubts, sure
+>>> from unlikekeys.orders import explained
+>>> history = ((1, 4, 'k', 'put', 'done'), (2, 3, 'k', 'look', 'none'), (5, 6, 'k', 'put', 'refused'))
+>>> [explained(history), sure(history, 'k', 1), sure(history, 'k', 3), sure(history, 'k', 4), doubts(((1, 2, 'k', 'put', 'done'), (3, 4, 'k', 'put', 'done')))]
+[(1, 0, 2), False, None, True, (0,)]
+""",
+    """
+>>> from unlikekeys.orders import closed
+>>> closed(((1, 2, 'k', 'put', 'done'), (3, 4, 'k', 'put', 'done')), 'k')
+(((), False), ((0,), True))
+""",
+)
+
+CHANGES = (
+    """
+>>> from unlikekeys.changes import planned
+>>> deed = (('x', 'two'), ('y', 'one'))
+>>> [planned((('x', 'a', 'one'), ('y', 'a', 'two')), deed)[:3], planned((('x', 'a', 'one'), ('y', 'b', 'two')), deed)[:2]]
+[(1, 0, (('a', (('x', 'two'), ('y', 'one'))),)), (3, 1)]
+""",
+)
+
+TEXTS = (
+    r"""
+>>> from unlikekeys.showing import show_run
+>>> show_run((('begin', 'pa'), ('step', 0)))
+'begin pa\nstep 0'
+""",
+    r"""
+>>> from unlikekeys.reading import read_run
+>>> read_run('begin pa\nstep')
+raises BadText(line=1)
+""",
+)
+
+DESKS = (
+    r"""
+>>> from unlikekeys.desk import Desk
+>>> desk = Desk('houses a b\nslot ra a no row\nslot rb b no row\nbears ra=row\nbears rb=row\nnever ra=row rb=row', 'scheme pa put\ndo b rb=no : : : 1 3\ndo a ra=no : ra=row : : 2 3\nsay done\nsay refused')
+>>> [desk.say('judge'), desk.say('begin pa k'), desk.say('step 0'), desk.say('step 0'), desk.say('stand k'), desk.say('history')]
+['right 2', '0', 'on', 'done', 'row no', '1 3 k put done']
+""",
+    r"""
+>>> from unlikekeys.desk import Desk
+>>> Desk('houses a b\nslot ra a no row\nslot rb b no row\nbears ra=row\nbears rb=row\nnever ra=row rb=row', 'scheme pa put\ndo b rb=no : : : 1 3\ndo a ra=no : ra=row : : 2 3\nsay done\nsay refused').say('judge now')
+raises NoLine(value='judge now')
+""",
+)
+
 
 class Examples(unittest.TestCase):
     def test_section_4(self):
@@ -169,4 +240,24 @@ class Examples(unittest.TestCase):
 
     def test_section_10(self):
         for text in MENDING:
+            check_example(self, text)
+
+    def test_section_12(self):
+        for text in TOWNS:
+            check_example(self, text)
+
+    def test_section_13(self):
+        for text in HISTORIES:
+            check_example(self, text)
+
+    def test_section_14(self):
+        for text in CHANGES:
+            check_example(self, text)
+
+    def test_section_15(self):
+        for text in TEXTS:
+            check_example(self, text)
+
+    def test_section_16(self):
+        for text in DESKS:
             check_example(self, text)

@@ -186,14 +186,51 @@ class Form(unittest.TestCase):
                 if isinstance(part, ast.Attribute) and part.attr not in known:
                     self.refuse("L18", path, part.lineno)
 
+    def test_no_name_is_a_method_and_an_attribute(self):
+        stored = {part.attr for _, tree in trees() for part in ast.walk(tree)
+                  if isinstance(part, ast.Attribute) and isinstance(part.ctx, ast.Store)}
+        self.assertEqual(stored & own_methods(), set())
+
+    def test_what_an_exit_does(self):
+        for path, tree in trees():
+            for node in ast.walk(tree):
+                if isinstance(node, ast.FunctionDef) and node.name == "__exit__":
+                    for part in ast.walk(node):
+                        if isinstance(part, (ast.Call, ast.Subscript, ast.For, ast.While, ast.Try, ast.Raise)):
+                            self.refuse("L6 With", path, part.lineno)
+
+    def test_what_a_comparison_does(self):
+        for path, tree in trees():
+            for node in ast.walk(tree):
+                if isinstance(node, ast.FunctionDef) and node.name == "__eq__":
+                    self.assertEqual([type(part) for part in node.body], [ast.Return], path.name)
+
     def test_each_function_of_the_interface_stands_in_its_file(self):
         interface = {
             "worlds": ("World",), "schemes": ("is_schemes",), "runs": ("is_run", "played"),
             "cases": ("is_case", "is_within", "led"), "judging": ("judged", "comes"),
             "tables": ("shows_right", "shows_wrong", "shows_comes", "shows_never"),
             "barring": ("barred_stands", "barred"), "mending": ("chosen", "mended", "shows_mended"), "own": ("own",),
+            "towns": ("Town",), "histories": ("is_history",),
+            "orders": ("explained", "shows_order", "closed", "shows_closed"), "doubts": ("doubts", "sure"),
+            "changes": ("planned", "shows_planned"),
+            "showing": ("show_world", "show_schemes", "show_run", "show_history"),
+            "reading": ("read_world", "read_schemes", "read_run", "read_history"), "desk": ("Desk",),
         }
         for file, names in interface.items():
             tree = ast.parse((PACKAGE / f"{file}.py").read_text())
             defined = {node.name for node in tree.body if isinstance(node, (ast.FunctionDef, ast.ClassDef))}
             self.assertEqual(set(names) - defined, set(), file)
+
+    def test_each_method_of_the_interface_stands_in_its_class(self):
+        interface = {
+            ("worlds", "World"): "is_pattern is_stand holds made has_row is_broken __eq__",
+            ("towns", "Town"): "begin step stay leave come lapse fall stand has_row doer letter history run back copy trial "
+                               "tried __eq__",
+            ("desk", "Desk"): "say",
+        }
+        for (file, name), methods in interface.items():
+            tree = ast.parse((PACKAGE / f"{file}.py").read_text())
+            defined = {part.name for node in tree.body if isinstance(node, ast.ClassDef) and node.name == name
+                       for part in node.body if isinstance(part, ast.FunctionDef)}
+            self.assertEqual(set(methods.split()) - defined, set(), name)
