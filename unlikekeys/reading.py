@@ -6,9 +6,8 @@ from unlikekeys.histories import check_history
 from unlikekeys.schemes import check_schemes
 from unlikekeys.worlds import World
 
-# The kinds of the lines of a world, in the sequence in which they come, and what the words behind the first one tell.
+# The kinds of the lines of a world, in the sequence in which they come.
 WORLD_KINDS = ("houses", "slot", "bears", "never", "lapse")
-WORLD_FORMS = {"houses": names_in, "slot": slot_in, "bears": pattern_in, "never": pattern_in, "lapse": lapse_in}
 
 
 def read_world(text):
@@ -17,7 +16,7 @@ def read_world(text):
     place = 0
     for number, words in enumerate(lines_of(text)):
         kind = words[0]
-        part = part_of_world(words)
+        part = part_of_world(kind, words[1:])
         if part is None or (kind == "houses") != (number == 0) or WORLD_KINDS.index(kind) < place:
             raise BadText(number)
         place = WORLD_KINDS.index(kind)
@@ -26,12 +25,15 @@ def read_world(text):
                  tuple(parts["lapse"]))
 
 
-def part_of_world(words):
-    """What a line of a world tells, None if it is none."""
-    if words[0] not in WORLD_KINDS:
-        return None
-    form = WORLD_FORMS[words[0]]
-    return form(words[1:])
+def part_of_world(kind, words):
+    """What a line of this kind tells by its other words, None if it is none."""
+    if kind == "houses":
+        return names_in(words)
+    if kind == "slot":
+        return slot_in(words)
+    if kind in ("bears", "never"):
+        return pattern_in(words)
+    return lapse_in(words) if kind == "lapse" else None
 
 
 def read_schemes(world, text):
