@@ -50,6 +50,42 @@ def own_methods():
             for part in node.body if isinstance(part, ast.FunctionDef)}
 
 
+def is_place(node):
+    """A name, or an attribute of a place."""
+    return isinstance(node, ast.Name) or (isinstance(node, ast.Attribute) and is_place(node.value))
+
+
+def is_let_in_exit(test):
+    """Whether an `if` of an `__exit__` may ask this, in a package with an `__eq__`."""
+    if isinstance(test, ast.BoolOp):
+        return all(is_let_in_exit(part) for part in test.values)
+    if isinstance(test, ast.UnaryOp):
+        return isinstance(test.op, ast.Not) and is_let_in_exit(test.operand)
+    return (isinstance(test, ast.Compare) and is_place(test.left) and len(test.ops) == 1
+            and isinstance(test.ops[0], (ast.Is, ast.IsNot))
+            and isinstance(test.comparators[0], ast.Constant) and test.comparators[0].value is None)
+
+
+def is_row_of_exit(node):
+    """Whether an `__exit__` may have this row; of the values that L6 lets, those that the package needs."""
+    if isinstance(node, ast.If):
+        return is_let_in_exit(node.test) and all(is_row_of_exit(part) for part in node.body + node.orelse)
+    if isinstance(node, ast.Assign):
+        return (all(isinstance(target, ast.Attribute) and is_place(target) for target in node.targets)
+                and (is_place(node.value) or isinstance(node.value, ast.Constant)))
+    if isinstance(node, ast.Return):
+        return node.value is None or ast.unparse(node.value) in ("None", "False")
+    return isinstance(node, ast.Pass)
+
+
+def reads_of_what_exit_is_told(function):
+    """The lines at which it reads more of what it is handed than whether kind is None."""
+    kind, *others = [part.arg for part in function.args.args[1:]]
+    asked = [part.left for part in ast.walk(function) if isinstance(part, ast.Compare)]
+    return [part.lineno for part in ast.walk(function) if isinstance(part, ast.Name)
+            and (part.id in others or (part.id == kind and part not in asked))]
+
+
 class Form(unittest.TestCase):
     def refuse(self, rule, path, line):
         self.fail(f"{rule}: {path.name}:{line}")
@@ -192,12 +228,24 @@ class Form(unittest.TestCase):
         self.assertEqual(stored & own_methods(), set())
 
     def test_what_an_exit_does(self):
-        for path, tree in trees():
-            for node in ast.walk(tree):
-                if isinstance(node, ast.FunctionDef) and node.name == "__exit__":
-                    for part in ast.walk(node):
-                        if isinstance(part, (ast.Call, ast.Subscript, ast.For, ast.While, ast.Try, ast.Raise)):
-                            self.refuse("L6 With", path, part.lineno)
+        exits = [(path, node) for path, tree in trees() for node in ast.walk(tree)
+                 if isinstance(node, ast.FunctionDef) and node.name == "__exit__"]
+        self.assertEqual([path.name for path, _ in exits], ["trials.py"])
+        for path, node in exits:
+            for part in node.body:
+                if not is_row_of_exit(part):
+                    self.refuse("L6 With", path, part.lineno)
+            for line in reads_of_what_exit_is_told(node):
+                self.refuse("L6 With", path, line)
+
+    def test_what_an_exit_may_ask(self):
+        for text in ("kind is None", "self.block.kept is None", "not self.kept is None or kind is not None",
+                     "self.a is None and (self.b is not None or not kind is None)"):
+            self.assertTrue(is_let_in_exit(ast.parse(text, mode="eval").body), text)
+        for text in ("self.block.kept", "not self.block.kept", "kind", "self.kept is True", "self.kept == None",
+                     "self.many == 1", "self.many > 0", "self.a is self.b", "kind is not None or not self.block.kept",
+                     "self.rows[0] is None", "self.told() is None", "None is kind", "self.a is None is None"):
+            self.assertFalse(is_let_in_exit(ast.parse(text, mode="eval").body), text)
 
     def test_what_a_comparison_does(self):
         for path, tree in trees():

@@ -8,7 +8,8 @@ class Block:
         self.state = state
         # The block of the same trial that it stands in, None if there is none.
         self.outer = outer
-        self.kept = False
+        # None until it is kept, then True: the way out of a block may ask attributes for None only (L6 With).
+        self.kept = None
 
 
 class Trial:
@@ -24,7 +25,7 @@ class Trial:
         return self
 
     def __exit__(self, kind, value, trace):
-        if kind is not None or not self.block.kept:
+        if kind is not None or self.block.kept is None:
             self.town.state = self.block.state
             self.town.time = self.block.state.time
             self.town.known = self.block.state.known
